@@ -115,6 +115,29 @@ func TestTotal(t *testing.T) {
 	}
 }
 
+// Numbers with the same denominator are added up first, wherever they are in the list, which stays as it is.
+func TestTotalOfEqualDenominators(t *testing.T) {
+	r := rand.New(rand.NewPCG(7, 8))
+	for range 200 {
+		var l []Rat
+		var texts []string
+		want := new(big.Rat)
+		for range r.IntN(30) {
+			a := big.NewRat(r.Int64N(2001)-1000, 1+r.Int64N(4))
+			x, _ := Read(a.String())
+			l = append(l, x)
+			texts = append(texts, a.RatString())
+			want.Add(want, a)
+		}
+		check(t, "Total", Total(l), want)
+		for i, x := range l {
+			if got, ok := x.Text(100); got != texts[i] || !ok {
+				t.Fatalf("Total changes the number %d: %s, before %s", i, got, texts[i])
+			}
+		}
+	}
+}
+
 func TestRead(t *testing.T) {
 	for s, want := range map[string]string{
 		"0": "0", "-0": "0", "000": "0", "-0.000": "0", "0/7": "0", "00012": "12", "-1.250": "-5/4", "6/4": "3/2", "10/05": "2", "0.1": "1/10",

@@ -1,5 +1,7 @@
 package long
 
+import "slices"
+
 // Rat is a rational number, not always in lowest terms: only its text is. It comes from Read, Int or another Rat; its zero value is no number.
 type Rat struct {
 	negative    bool // never for 0
@@ -85,13 +87,29 @@ func (x Rat) Floor() Rat {
 
 // Total returns the sum of all numbers of a list.
 func Total(l []Rat) Rat {
+	sorted := slices.Clone(l)
+	slices.SortFunc(sorted, func(a, b Rat) int { return a.bottom.compare(b.bottom) })
+	// Numbers with the same denominator are added up first: their sum has no longer one.
+	parts := sorted[:0]
+	for _, x := range sorted {
+		last := len(parts) - 1
+		if last >= 0 && parts[last].bottom.compare(x.bottom) == 0 {
+			parts[last] = parts[last].Add(x)
+		} else {
+			parts = append(parts, x)
+		}
+	}
+	return totalByHalves(parts)
+}
+
+// totalByHalves returns the sum of all numbers of a list. Halves of a list have denominators of similar lengths; one number after the other would meet an ever longer one.
+func totalByHalves(l []Rat) Rat {
 	switch len(l) {
 	case 0:
 		return Int(0)
 	case 1:
 		return l[0]
 	}
-	// Halves of a list have denominators of similar lengths; one number after the other would meet an ever longer one.
 	half := len(l) / 2
-	return Total(l[:half]).Add(Total(l[half:]))
+	return totalByHalves(l[:half]).Add(totalByHalves(l[half:]))
 }

@@ -2,10 +2,7 @@
 package quantity
 
 import (
-	"maps"
-	"slices"
 	"strconv"
-	"strings"
 
 	"arrayarchive/api"
 	"arrayarchive/long"
@@ -162,24 +159,13 @@ func isPositive(x string) bool {
 
 // Sum returns the sum of the numbers in the list, without the missing values, or the missing value if it is too long.
 func Sum(l []string) string {
-	// Numbers with the same denominator are added up first: their sum has no longer one.
-	totals := map[string]long.Rat{}
+	numbers := make([]long.Rat, 0, len(l))
 	for _, x := range l {
-		n, ok := read(x)
-		if !ok {
-			continue
+		if n, ok := read(x); ok {
+			numbers = append(numbers, n)
 		}
-		_, denominator, _ := strings.Cut(x, "/")
-		if total, found := totals[denominator]; found {
-			n = n.Add(total)
-		}
-		totals[denominator] = n
 	}
-	var parts []long.Rat
-	for _, denominator := range slices.Sorted(maps.Keys(totals)) {
-		parts = append(parts, totals[denominator])
-	}
-	return text(long.Total(parts))
+	return text(long.Total(numbers))
 }
 
 // Fits reports whether x is a value of a type.
