@@ -41,6 +41,9 @@ func check(t *testing.T, name string, x Rat, want *big.Rat) {
 	if got, ok := x.Text(100000); got != want.RatString() || !ok {
 		t.Fatalf("%s: %s, %v, want %s", name, got, ok, want.RatString())
 	}
+	if got := x.Exact(); got != want.RatString() {
+		t.Fatalf("%s: %s, want %s", name, got, want.RatString())
+	}
 }
 
 func TestOperations(t *testing.T) {
@@ -173,4 +176,68 @@ func TestTextTooLong(t *testing.T) {
 			t.Errorf("Text of %s: %q, %v", s, got, ok)
 		}
 	}
+}
+
+func checkExact(t *testing.T, above, below *big.Int) {
+	t.Helper()
+	x, ok := Read(above.String() + "/" + below.String())
+	want := new(big.Rat).SetFrac(above, below).RatString()
+	if got := x.Exact(); got != want || !ok {
+		t.Fatalf("Exact of %.300s / %.300s: %.300s, want %.300s", above, below, got, want)
+	}
+}
+
+func TestExact(t *testing.T) {
+	r := rand.New(rand.NewPCG(9, 10))
+	natural := func(length int) *big.Int {
+		n, _ := new(big.Int).SetString(digits(r, 1+r.IntN(length)), 10)
+		return n
+	}
+	for i := range 4000 {
+		a, b, factor := natural(1+i%200), natural(1+i*7%200), natural(1+i*3%150)
+		if r.IntN(2) == 0 {
+			a.Neg(a)
+		}
+		checkExact(t, a, b)
+		checkExact(t, new(big.Int).Mul(a, factor), new(big.Int).Mul(b, factor))
+		checkExact(t, new(big.Int).Mul(a, factor), factor)
+		checkExact(t, new(big.Int), b)
+		checkExact(t, new(big.Int).Add(b, big.NewInt(1)), b)
+	}
+}
+
+// Quotients that are all 1, or all as large as a limb, and numbers with long rows of equal bits.
+func TestExactEdges(t *testing.T) {
+	for _, quotient := range []*big.Int{big.NewInt(1), big.NewInt(2), new(big.Int).SetUint64(math.MaxUint64), new(big.Int).Lsh(big.NewInt(1), 64), new(big.Int).Lsh(big.NewInt(1), 200)} {
+		x, y := big.NewInt(1), big.NewInt(1)
+		for i := 0; x.BitLen() < 2500; i++ {
+			x, y = new(big.Int).Add(new(big.Int).Mul(x, quotient), y), x
+			checkExact(t, x, y)
+			checkExact(t, y, x)
+			if i%4 == 0 {
+				factor := new(big.Int).Lsh(big.NewInt(3), uint(i%300))
+				checkExact(t, new(big.Int).Mul(x, factor), new(big.Int).Mul(y, factor))
+			}
+		}
+	}
+	power := func(n int) *big.Int { return new(big.Int).Lsh(big.NewInt(1), uint(n)) }
+	for i := range 260 {
+		for _, k := range []int{0, 1, 61, 62, 63, 64, 65, 127, 128, 129, 192, 300} {
+			for _, more := range []int64{-1, 0, 1} {
+				a := new(big.Int).Add(power(i+2), big.NewInt(more))
+				for _, less := range []int64{-1, 0, 1} {
+					checkExact(t, a, new(big.Int).Add(power(k+2), big.NewInt(less)))
+				}
+			}
+		}
+	}
+}
+
+// The text of a number of 200000 digits takes no more than seconds.
+func TestExactOfMany(t *testing.T) {
+	r := rand.New(rand.NewPCG(11, 12))
+	a, _ := new(big.Int).SetString(digits(r, 60000), 10)
+	b, _ := new(big.Int).SetString(digits(r, 60000), 10)
+	factor, _ := new(big.Int).SetString(digits(r, 40000), 10)
+	checkExact(t, new(big.Int).Mul(a, factor), new(big.Int).Mul(b, factor))
 }

@@ -91,15 +91,28 @@ func (x Rat) Text(digits int) (string, bool) {
 	if !ok {
 		return "", false
 	}
-	s, below := top.text(), bottom.text()
-	if len(s) > digits || len(below) > digits {
+	above, below := top.text(), bottom.text()
+	if len(above) > digits || len(below) > digits {
 		return "", false
 	}
-	if x.negative {
+	return fractionText(x.negative, above, below), true
+}
+
+// Exact returns the Text of x, however long it is.
+func (x Rat) Exact() string {
+	factor := commonFactor(x.top, x.bottom)
+	top, _ := x.top.divided(factor)
+	bottom, _ := x.bottom.divided(factor)
+	return fractionText(x.negative, top.text(), bottom.text())
+}
+
+func fractionText(negative bool, above, below string) string {
+	s := above
+	if negative {
 		s = "-" + s
 	}
 	if below != "1" {
 		s += "/" + below
 	}
-	return s, true
+	return s
 }
